@@ -1,0 +1,1 @@
+"""Allbids: lists of bids as buyers, for all prices."""
