@@ -13,8 +13,8 @@ FILES = sorted(PACKAGE.rglob("*.py"))
 LIBRARY = {"math": {"gcd", "lcm", "isqrt", "comb", "perm", "factorial"},
            "itertools": {"product", "combinations", "permutations"},
            "heapq": {"heappush", "heappop", "heapify", "heapreplace", "heappushpop"}}
-BUILTINS = set("""len range enumerate zip min max sum abs sorted reversed int str bool bytes list tuple dict set frozenset
-    isinstance ord repr any all divmod getattr hasattr setattr Exception ValueError TypeError KeyError IndexError
+BUILTINS = set("""len range enumerate zip min max sum abs sorted reversed int str bool bytes list tuple dict set
+    frozenset isinstance ord repr any all divmod getattr hasattr setattr Exception ValueError TypeError KeyError IndexError
     LookupError ZeroDivisionError ArithmeticError OverflowError RuntimeError NotImplementedError AttributeError
     StopIteration NotImplemented""".split())
 KEYWORDS = {"sorted": {"key", "reverse"}, "min": {"key", "default"}, "max": {"key", "default"}, "sum": {"start"},
@@ -25,8 +25,8 @@ METHODS = set("""append clear copy count endswith extend find get index insert i
 BARRED_NAMES = set("register mro elements open input law version_info with_traceback add_note".split())
 BARRED_WORDS = set("""type typing typing_extensions enum Enum IntEnum StrEnum Flag IntFlag Generic Protocol ABC ABCMeta
     namedtuple NamedTuple TypedDict TYPE_CHECKING abstractmethod""".split())
-DOUBLES = set("""__init__ __eq__ __repr__ __str__ __len__ __enter__ __exit__ __call__ __iter__ __lt__ __le__ __gt__ __ge__
-    __ne__ __add__ __sub__ __mul__ __radd__ __rsub__ __rmul__ __neg__ __pos__ __bool__ __contains__""".split())
+DOUBLES = set("""__init__ __eq__ __repr__ __str__ __len__ __enter__ __exit__ __call__ __iter__ __lt__ __le__ __gt__
+    __ge__ __ne__ __add__ __sub__ __mul__ __radd__ __rsub__ __rmul__ __neg__ __pos__ __bool__ __contains__""".split())
 NODES = (ast.AsyncFunctionDef, ast.AsyncFor, ast.AsyncWith, ast.Await, ast.Global, ast.Nonlocal, ast.GeneratorExp,
          ast.Yield, ast.YieldFrom, ast.Lambda, ast.AnnAssign, ast.Import, ast.MatMult, ast.Div, ast.Delete, ast.With,
          ast.NamedExpr)
