@@ -14,7 +14,8 @@ LIBRARY = {"math": {"gcd", "lcm", "isqrt", "comb", "perm", "factorial"},
            "itertools": {"product", "combinations", "permutations"},
            "heapq": {"heappush", "heappop", "heapify", "heapreplace", "heappushpop"}}
 BUILTINS = set("""len range enumerate zip min max sum abs sorted reversed int str bool bytes list tuple dict set
-    frozenset isinstance ord repr any all divmod getattr hasattr setattr Exception ValueError TypeError KeyError IndexError
+    frozenset isinstance ord repr any all divmod getattr hasattr setattr Exception ValueError TypeError
+    KeyError IndexError
     LookupError ZeroDivisionError ArithmeticError OverflowError RuntimeError NotImplementedError AttributeError
     StopIteration NotImplemented""".split())
 KEYWORDS = {"sorted": {"key", "reverse"}, "min": {"key", "default"}, "max": {"key", "default"}, "sum": {"start"},
