@@ -1,7 +1,7 @@
 """Lists of bids: their plain lists, sums and texts."""
 
-from allbids.checks import are_prices, is_row, told_row
-from allbids.errors import BadLine, BadNumber, BadRow, BadText, Unlike
+from allbids.checks import are_prices, check_same_kinds, is_row, told_row
+from allbids.errors import BadLine, BadNumber, BadRow, BadText
 from allbids.ratios import behind_sign, is_whole, number_end, ratio_text, unsigned_end, value_of, whole_text
 from allbids.scales import ascending
 
@@ -20,8 +20,7 @@ class Bids:
     def __add__(self, other):
         if not isinstance(other, Bids):
             return NotImplemented
-        if self.kinds != other.kinds:
-            raise Unlike("kinds")
+        check_same_kinds(self, other)
         return Bids(self.kinds, self.rows + other.rows)
 
     def __neg__(self):

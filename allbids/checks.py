@@ -1,5 +1,6 @@
 """What any value may be: rows, prices, bundles, kinds, sets of kinds."""
 
+from allbids.errors import Unlike
 from allbids.ratios import is_ratio, is_whole, told
 
 
@@ -33,6 +34,12 @@ def are_kinds(value, kinds):
     if not isinstance(value, (tuple, list)) or not all([is_kind(item, kinds) for item in value]):
         return False
     return all([value[at] < value[at + 1] for at in range(len(value) - 1)])
+
+
+def check_same_kinds(one, other):
+    """Unlike for two objects with unlike numbers of kinds."""
+    if one.kinds != other.kinds:
+        raise Unlike("kinds")
 
 
 def told_row(row):

@@ -162,12 +162,12 @@ def limit_for(rows, plane, lows):
     return 8 * max(numbers + list(lows) + [abs(plane[2]), GRAIN])
 
 
-def cells_on(rows, plane):
-    """For each cell of a wall prices in it, plain for the bids."""
-    cuts = cuts_of(plane, planes_of(rows))
+def cells_on(rows, plane, planes):
+    """For each cell of a wall for bids prices in it that are on none of planes."""
     lows = (0, 0, 0)
     spans = room_on(plane, lows, limit_for(rows, plane, lows))
-    return [prices_at(plane, spot_in(cell, cuts)) for cell in cells_in(spans, cuts)]
+    cuts = cuts_of(plane, planes)
+    return [prices_at(plane, spot_in(cell, cuts)) for cell in cells_in(spans, cuts_of(plane, planes_of(rows)))]
 
 
 def low_spot(rows, lows):
@@ -182,18 +182,28 @@ def low_spot(rows, lows):
 
 
 def low_spot_on(rows, planes, plane, lows):
-    """Prices as low_spot tells, on one plane. The weight changes only where one of the bids that may turn on
-    the plane begins to, so cells between these places are enough."""
-    turning = [row for row in rows if row[1][plane[0]] - row[1][plane[1]] == plane[2]]
-    if all([weight > 0 for weight, _ in turning]):
+    """Prices as low_spot tells, on one plane."""
+    if all([weight > 0 for weight, _ in turning(rows, plane)]):
         return None
-    spans = room_on(plane, lows, limit_for(rows, plane, lows))
-    if spans is None:
-        return None
-    first, second = beside(plane)
-    cuts = ([row[1][first] - row[1][plane[1]] for row in turning],
-            [row[1][second] - row[1][plane[1]] for row in turning], [])
-    for cell in cells_in(spans, cuts):
-        if turning_weight(turning, plane, prices_at(plane, spot_in(cell, cuts))) < 0:
+    for cell, prices in turning_cells(rows, plane, lows):
+        if turning_weight(rows, plane, prices) < 0:
             return prices_at(plane, spot_in(cell, cuts_of(plane, planes)))
     return None
+
+
+def turning(rows, plane):
+    """The bids that turn on a plane somewhere."""
+    return [row for row in rows if row[1][plane[0]] - row[1][plane[1]] == plane[2]]
+
+
+def turning_cells(rows, plane, lows):
+    """The cells of a plane above lows, parted only where a bid that turns on it begins to, so that no weight
+    changes within one: a list of pairs (cell, prices in it)."""
+    spans = room_on(plane, lows, limit_for(rows, plane, lows))
+    if spans is None:
+        return []
+    first, second = beside(plane)
+    bids = turning(rows, plane)
+    cuts = ([row[1][first] - row[1][plane[1]] for row in bids],
+            [row[1][second] - row[1][plane[1]] for row in bids], [])
+    return [(cell, prices_at(plane, spot_in(cell, cuts))) for cell in cells_in(spans, cuts)]

@@ -1,7 +1,7 @@
 """Sets of prices that are told by bounds."""
 
 from allbids.bounds import no_bounds, tight
-from allbids.checks import are_prices, is_from_zero, is_kind, is_row, told_row
+from allbids.checks import are_prices, check_same_kinds, is_from_zero, is_kind, is_row, told_row
 from allbids.errors import BadRow, Unlike
 from allbids.ratios import is_ratio, less, lowest, minus, told
 from allbids.scales import common_bottom, scaled
@@ -39,7 +39,7 @@ class Region:
 
     def common(self, other):
         """The Region of all prices that are in both; None if there are none."""
-        check_kinds_of(self, other)
+        check_same_kinds(self, other)
         lows = [one if less(two, one) else two for one, two in zip(self.lows, other.lows)]
         highs = [two if above(one, two) else one for one, two in zip(self.highs, other.highs)]
         try:
@@ -49,15 +49,9 @@ class Region:
 
     def within(self, other):
         """Whether all prices of the region are in another one."""
-        check_kinds_of(self, other)
+        check_same_kinds(self, other)
         both = self.common(other)
         return both is not None and both == self
-
-
-def check_kinds_of(one, other):
-    """Unlike for regions of unlike numbers of kinds."""
-    if one.kinds != other.kinds:
-        raise Unlike("kinds")
 
 
 def check_bounds(lows, highs, gaps):
@@ -95,6 +89,15 @@ def bounds_of(lows, highs, gaps):
         if rows[i][j] is None or gap < rows[i][j]:
             rows[i][j] = gap
     return rows, bottom
+
+
+def whole_bounds(region, ratios):
+    """The tight bounds of a region as whole numbers over a bottom that fits for further ratios too, and this
+    bottom."""
+    bounds, bottom = bounds_of(region.lows, region.highs, region.gaps)
+    whole = common_bottom([(0, bottom)] + ratios)
+    rows = [[None if item is None else item * (whole // bottom) for item in row] for row in bounds]
+    return tight(rows), whole
 
 
 def told_end(number, bottom):

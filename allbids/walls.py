@@ -42,7 +42,7 @@ def cells(bids, wall):
     i, j, number = read_plane(wall, bids.kinds)
     rows, bottom = grained(bids, [number])
     plane = (i, j, scaled(number, bottom))
-    places = cells_on(rows, plane)
+    places = cells_on(rows, plane, planes_of(rows))
     return tuple([(told_place(bids, place, bottom), turning_weight(rows, plane, place)) for place in places])
 
 
@@ -94,7 +94,19 @@ def grained(bids, ratios):
     """The bids in whole numbers, multiples of GRAIN with four places, over a bottom that is told with them and
     fits for further ratios too."""
     bottom = GRAIN * common_bottom(ratios_of(bids) + ratios)
-    return [(weight, padded(numbers)) for weight, numbers in scaled_bids(bids, bottom)], bottom
+    return padded_bids(bids, bottom), bottom
+
+
+def grained_lists(lists):
+    """For each of some lists its bids in whole numbers, as grained tells them, over one bottom for all lists, and
+    this bottom."""
+    bottom = GRAIN * common_bottom([ratio for bids in lists for ratio in ratios_of(bids)])
+    return [padded_bids(bids, bottom) for bids in lists], bottom
+
+
+def padded_bids(bids, bottom):
+    """The bids of a list with four places, their numbers as tops over this bottom."""
+    return [(weight, padded(numbers)) for weight, numbers in scaled_bids(bids, bottom)]
 
 
 def with_four(prices):

@@ -66,9 +66,8 @@ def table_of(bids, caps):
     if not is_bundle(caps, bids.kinds):
         raise BadRow(caps)
     check_box(caps)
-    rows, bottom = whole_bids(bids)
-    tops = [gain_and_cost(rows, climbed(rows, bundle), bundle) for bundle in box(caps)]
-    return Worths(caps, told_tops(tops, bottom))
+    table, bottom = worths_in(bids, caps)
+    return Worths(caps, told_tops(list(table.values()), bottom))
 
 
 def falls(worths):
@@ -99,8 +98,7 @@ def list_of(worths):
     if worths.numbers[0][0] != 0 or falls(worths) is not None or exchange(worths) is not None:
         raise NoBuyer()
     table, bottom = whole_table(worths)
-    places = [prices for prices in corner_prices(table, worths.caps) if any(prices)]
-    return Bids(len(worths.caps), [(weight_by(table, prices), told_tops(prices, bottom)) for prices in places])
+    return bids_by(table, worths.caps, bottom)
 
 
 def check_buyer(bids):
@@ -149,6 +147,18 @@ def whole_table(worths):
     return dict(zip(box(worths.caps), tops)), bottom
 
 
+def worths_in(bids, caps):
+    """The worths that a buyer has of all bundles of a box, by bundles, as whole numbers, and their bottom."""
+    rows, bottom = whole_bids(bids)
+    return {bundle: gain_and_cost(rows, climbed(rows, bundle), bundle) for bundle in box(caps)}, bottom
+
+
+def bids_by(table, caps, bottom):
+    """The list of bids that goes with a table of a buyer, its numbers by bundles and over this bottom."""
+    places = [prices for prices in corner_prices(table, caps) if any(prices)]
+    return Bids(len(caps), [(weight_by(table, prices), told_tops(prices, bottom)) for prices in places])
+
+
 def least_point(bids, bundle):
     """The bids and prices as worth_prices tells them, in whole numbers, and their bottom."""
     check_buyer(bids)
@@ -160,7 +170,12 @@ def least_point(bids, bundle):
 
 def gain_and_cost(rows, prices, bundle):
     """The gain and the cost of a bundle together, in whole numbers."""
-    return gain_on(rows, prices) + sum([units * price for units, price in zip(bundle, prices)])
+    return gain_on(rows, prices) + cost_of(bundle, prices)
+
+
+def cost_of(bundle, prices):
+    """The cost of a bundle."""
+    return sum([units * price for units, price in zip(bundle, prices)])
 
 
 def climbed(rows, bundle):

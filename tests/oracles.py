@@ -5,6 +5,7 @@ import random
 from fractions import Fraction
 
 from allbids.bids import Bids
+from allbids.worths import list_of, table_of
 
 
 def fraction(value):
@@ -95,6 +96,26 @@ def random_lists(seed, many, **more):
         yield rng, random_bids(rng, kinds, rng.randint(0, 5), rng.choice([2, 3, 6]), **more)
 
 
+def mended_lists(seed, many, kinds=(2, 3)):
+    """Pairs of a random source and a buyer, most of which have weights below 0: lists of tables with caps lower than
+    what is wanted."""
+    rng = random.Random(seed)
+    for _ in range(many):
+        yield rng, mended_list(rng, rng.choice(kinds))
+
+
+def mended_list(rng, kinds, many=4, top=6):
+    bids = random_bids(rng, kinds, many, top, below=0)
+    return list_of(table_of(bids, [rng.randint(1, 2) for _ in range(kinds)]))
+
+
+def random_buyer(rng, kinds, top=4):
+    """A buyer whose numbers are integers, perhaps with weights below 0, that wants few units."""
+    if rng.random() < 0.5:
+        return mended_list(rng, kinds, rng.randint(1, 4), top)
+    return random_bids(rng, kinds, rng.randint(0, 3), top, below=0)
+
+
 def box_by(caps):
     return list(itertools.product(*[range(cap + 1) for cap in caps]))
 
@@ -104,6 +125,31 @@ def worth_by(bids, bundle):
     top = max([0] + [number[0] for _, numbers in bids.rows for number in numbers])
     places = itertools.product(range(top + 1), repeat=bids.kinds)
     return min(gain_by(bids, p) + sum(u * q for u, q in zip(bundle, p)) for p in places)
+
+
+def cost(bundle, prices):
+    return sum(units * price for units, price in zip(bundle, prices))
+
+
+def top_of(*lists):
+    """The greatest number of any bid, if all are integers."""
+    return max([0] + [number[0] for bids in lists for _, numbers in bids.rows for number in numbers])
+
+
+def whole_gain(bids, prices):
+    """The gain at prices that are integers, as all numbers are."""
+    return sum(weight * max([0] + [b[0] - p for b, p in zip(numbers, prices)]) for weight, numbers in bids.rows)
+
+
+def room_for(bids):
+    """More units of each kind than the buyer ever takes."""
+    return [sum(max(0, weight) for weight, _ in bids.rows) + 1] * bids.kinds
+
+
+def worths_of(bids, caps=None):
+    """The worths of all bundles of a box, if all numbers are integers."""
+    gains = {p: whole_gain(bids, p) for p in itertools.product(range(top_of(bids) + 1), repeat=bids.kinds)}
+    return {bundle: min(gains[p] + cost(bundle, p) for p in gains) for bundle in box_by(caps or room_for(bids))}
 
 
 # The list of point 21, which is no buyer.

@@ -9,10 +9,9 @@ from allbids.bids import Bids
 from allbids.errors import BadRow, Unlike
 from allbids.gains import bends, convex_at
 from allbids.walls import Barrier, barrier, barrier_above, bent_prices, cells, is_buyer, walls, weight_at
-from allbids.worths import list_of, table_of
 
-from oracles import (BARRED, MENDED, fraction, fractions, gain_by, height, pair, pairs, planes_by, random_bids,
-                     random_lists, weight_by_turns)
+from oracles import (BARRED, MENDED, fraction, fractions, gain_by, height, mended_lists, pair, pairs, planes_by,
+                     random_bids, random_lists, weight_by_turns)
 
 NO_WALLS = [None, 5, "at", (), ("at",), ("at", 0), ("at", 0, 1, 1), ("at", 2, 1), ("at", -1, 1), ("at", True, 1),
             ("at", 0, 0), ("at", 0, -1), ("at", 0, (-1, 2)), ("at", 0, (0, 3)), ("at", 0, (1, 0)), ("at", 0, None),
@@ -38,15 +37,6 @@ def prices_on(rng, kinds, plane, lows):
     else:
         prices[plane[1]] = prices[plane[2]] + fraction(plane[3])
     return prices
-
-
-def mended_lists(seed, many):
-    """Buyers, most of which have weights below 0: lists of tables with caps lower than what is wanted."""
-    rng = random.Random(seed)
-    for _ in range(many):
-        kinds = rng.choice([2, 3])
-        bids = random_bids(rng, kinds, 4, 6, below=0)
-        yield rng, list_of(table_of(bids, [rng.randint(1, 2) for _ in range(kinds)]))
 
 
 class Walls(unittest.TestCase):
