@@ -1,7 +1,7 @@
 """Lists held against one another, for all prices."""
 
 from allbids.bounds import all_prices, corners_of
-from allbids.checks import check_same_kinds, frozen
+from allbids.checks import frozen
 from allbids.gains import NOTHING, best, gain_on
 from allbids.planes import GROUND, cells_on, planes_of
 from allbids.ratios import lowest
@@ -81,8 +81,7 @@ def worths_below(one, other):
 
 
 def difference(one, other):
-    """The list whose gain is that of one less that of other."""
-    check_same_kinds(one, other)
+    """The list whose gain is that of one less that of other; Unlike for unlike kinds."""
     return one + -other
 
 
@@ -100,16 +99,15 @@ def least_within(rows, bounds):
 
 
 def prices_beside_top(rows):
-    """Prices at one of which the gain of bids is not 0, none if there are no bids: beside a bid that wants the most
-    kinds and, among such, has the greatest sum of numbers, with all other kinds too dear."""
+    """Prices at one of which the gain of bids is not 0, none if there are no bids; numbers are 0 or more than 1, and
+    differ by more than 1. They are beside a bid with the greatest sum of numbers: each other bid has a lower number
+    for some kind that this bid wants, and does not take this kind at any of them."""
     if not rows:
         return []
-    ranks = [(len([number for number in numbers if number > 0]), sum(numbers)) for _, numbers in rows]
-    top = rows[ranks.index(max(ranks))][1]
-    dear = 1 + max([max(numbers) for _, numbers in rows])
+    _, top = max([(sum(numbers), numbers) for _, numbers in rows])
     found = [()]
     for number in top:
-        ends = [number - 1, number + 1] if number > 0 else [dear]
+        ends = [number - 1, number + 1] if number > 0 else [0]
         found = [prices + (end,) for prices in found for end in ends]
     return found
 

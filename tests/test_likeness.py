@@ -79,6 +79,11 @@ class Alike(unittest.TestCase):
                 one = random_bids(random.Random(step), kinds, 4, 9)
                 self.check_unlike(one, one + step * Bids(kinds, rows))
 
+    def test_gains_that_meet_beside_a_low_bid(self):
+        """The gain is 0 at 2 - 1/2 and at 2 + 1/2, on both sides of the lowest bid."""
+        self.check_unlike(Bids(1, [(8, (2,)), (-5, (3,)), (1, (5,))]), Bids(1, []))
+        self.check_unlike(Bids(2, [(8, (2, 0)), (1, (5, 0))]), Bids(2, [(5, (3, 0))]))
+
     def test_against_nothing(self):
         for rng, bids in random_lists(42, 80, bottoms=(1, 2, 1000)):
             if bids.rows:
@@ -154,8 +159,10 @@ class NeverBelow(unittest.TestCase):
         rng = random.Random(45)
         for kinds in [2, 3, 3]:
             one = random_bids(rng, kinds, 6, 10 ** 6, bottoms=(1000,), below=0)
-            rows = [(weight, [pair(max(Fraction(0), b - Fraction(rng.randint(0, 2), 1000))) for b in fractions(numbers)])
-                    for weight, numbers in one.rows]
+            rows = []
+            for weight, numbers in one.rows:
+                less = [max(Fraction(0), b - Fraction(rng.randint(0, 2), 1000)) for b in fractions(numbers)]
+                rows.append((weight, pairs(less)))
             other = Bids(kinds, rows)
             self.assertIsNone(never_below(one, other))
             self.check_below(other, one)
@@ -278,6 +285,19 @@ class GreatestGap(unittest.TestCase):
             self.assertIs(never_below(other, one) is None, gap == 0)
             nothing += gap == 0
         self.assertTrue(nothing > 20)
+
+    def test_where_ties_of_kinds_meet_other_planes(self):
+        """Numbers so sparse that the gap is often at prices that are no numbers of any bid."""
+        rng = random.Random(53)
+        apart = 0
+        for kinds, top, many in [(2, 30, 40), (3, 11, 30)]:
+            for _ in range(many):
+                one, other = [random_bids(rng, kinds, rng.randint(1, 3), top, below=0.3) for _ in range(2)]
+                self.assertEqual(self.check_gap(one, other), -least_by(other, one))
+                self.assertEqual(never_below(one, other) is None, least_by(one, other) >= 0)
+                numbers = [numbers[k] for bids in (one, other) for _, numbers in bids.rows for k in range(kinds)]
+                apart += any(price[0] and price not in numbers for price in greatest_gap(one, other).prices)
+        self.assertTrue(apart > 5, apart)
 
     def test_never_above(self):
         self.assertEqual(greatest_gap(EMPTY, MENDED).gap, (0, 1))

@@ -327,7 +327,8 @@ class Dealt(unittest.TestCase):
                 market = Market(buyers, supply)
                 region = clearing(market)
                 self.check_dealt(market, fractions(region.lows))
-                self.check_dealt(market, fractions(region.highs) if None not in region.highs else fractions(region.lows))
+                if None not in region.highs:
+                    self.check_dealt(market, fractions(region.highs))
 
 
 if __name__ == "__main__":

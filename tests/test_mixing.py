@@ -157,6 +157,26 @@ class Ranges(Checks):
         self.check_no_range(found, one, other)
         self.assertIsNone(self.check_range(Bids(1, [(-3, (5,))]), Bids(1, [(1, (6,))])))
 
+    def test_bounds_of_weights(self):
+        """With one kind each number has one pair of weights, and so one bound."""
+        rng = random.Random(53)
+        count = {True: 0, False: 0}
+        for _ in range(200):
+            many = rng.choice([2, 3])
+            pairs_of = [(rng.randint(-9, 9), rng.choice([-5, -4, -3, -1, 1, 2, 3, 4])) for _ in range(many)]
+            one = Bids(1, [(u, (k + 1,)) for k, (u, _) in enumerate(pairs_of)])
+            other = Bids(1, [(v, (k + 1,)) for k, (_, v) in enumerate(pairs_of)])
+            lows = [Fraction(-u, v) for u, v in pairs_of if v > 0]
+            highs = [Fraction(-u, v) for u, v in pairs_of if v < 0]
+            wanted = not lows or not highs or max(lows) <= min(highs)
+            count[wanted] += 1
+            found = self.check_range(one, other)
+            self.assertIs(found is not None, wanted)
+            if wanted:
+                self.assertEqual(found.low, pair(max(lows)) if lows else None)
+                self.assertEqual(found.high, pair(min(highs)) if highs else None)
+        self.assertTrue(min(count.values()) > 40)
+
     def test_just_one_t(self):
         one, other = Bids(1, [(-3, (5,)), (3, (7,))]), Bids(1, [(1, (5,)), (-1, (7,))])
         found = self.check_range(one, other)
@@ -230,6 +250,18 @@ class Mendings(Checks):
                 count["zero" if number == 0 else "whole" if number.denominator == 1 else "part"] += 1
         self.assertTrue(min(count.values()) > 10, count)
 
+    def test_many_limits(self):
+        """With one kind each number has one row of weights; helpers help with some and harm others."""
+        rng = random.Random(54)
+        count = {True: 0, False: 0}
+        for _ in range(150):
+            many = rng.randint(3, 6)
+            bids = Bids(1, [(rng.randint(-9, 1), (k + 1,)) for k in range(many)])
+            helpers = [Bids(1, [(rng.choice([-2, -1, 0, 1, 3, 7]), (k + 1,)) for k in range(many)])
+                       for _ in range(rng.randint(3, 6))]
+            count[self.check_mended(bids, helpers) is None] += 1
+        self.assertTrue(min(count.values()) > 10, count)
+
     def test_no_helpers(self):
         found = mended(MENDED, ())
         self.assertEqual((found.number, found.weights, found.grounds), ((0, 1), (), ()))
@@ -297,8 +329,9 @@ def copied(value, **changes):
 def wrong_ratios(value):
     """Values that are not this ratio, or not as it is told."""
     top, bottom = value
-    yield from [(2 * top, 2 * bottom), (top + 1, bottom), (top, bottom + 1), (top, -bottom), (-top, -bottom), top,
-                None, True, (), (top,), (top, bottom, 1), str(top), ((top, 1), bottom), (top, True), (top, None)]
+    yield from [(1, 0), (0, 0), (2 * top, 2 * bottom), (top + 1, bottom), (top, bottom + 1), (top, -bottom),
+                (-top, -bottom), top, None, True, (), (top,), (top, bottom, 1), str(top), ((top, 1), bottom),
+                (top, True), (top, None)]
     if top == 1:
         yield (True, bottom)
 
@@ -376,19 +409,28 @@ class Judged(unittest.TestCase):
         """Other prices of the same wall, and other walls, show an end as well."""
         one, other = Bids(2, [(3, (5, 1)), (2, (7, 4))]), Bids(2, [(2, (5, 1)), (-3, (7, 4))])
         found = buyer_range(one, other)
-        for wall, place, wanted in [(("at", 0, (5, 1)), ((5, 1), (9, 2)), True), (("at", 1, (1, 1)), ((6, 1), (1, 1)), True),
-                                    (("as", 0, 1, (4, 1)), ((9, 2), (1, 2)), True), (("at", 0, (5, 1)), ((5, 1), (4, 1)), False),
-                                    (("at", 0, (5, 1)), ((5, 1), (1, 2)), False), (("at", 0, (5, 1)), ((5, 1), (0, 1)), False)]:
+        for wall, place, wanted in [
+                (("at", 0, (5, 1)), ((5, 1), (9, 2)), True), (("at", 1, (1, 1)), ((6, 1), (1, 1)), True),
+                (("as", 0, 1, (4, 1)), ((9, 2), (1, 2)), True), (("at", 0, (5, 1)), ((5, 1), (4, 1)), False),
+                (("at", 0, (5, 1)), ((5, 1), (1, 2)), False), (("at", 0, (5, 1)), ((5, 1), (0, 1)), False)]:
             self.assertIs(is_range(one, other, copied(found, below=Reason(wall, place, (3, 2)))), wanted)
         # Weights that bar less, and walls that are no planes of the lists.
-        weak = Bids(2, [(5, (8, 8))])
-        found = buyer_range(one + weak, other + weak)
+        one, other = one + Bids(2, [(5, (8, 8))]), other + Bids(2, [(1, (8, 8))])
+        found = buyer_range(one, other)
+        self.assertIs(is_range(one, other, found), True)
         far = Reason(("at", 0, (8, 1)), ((8, 1), (9, 1)), (5, 1))
-        self.assertTrue(weight_at(one + weak, far.wall, far.place) == 5)
-        self.assertIs(is_range(one + weak, other + weak, found), True)
-        self.assertIs(is_range(one + weak, other + weak, copied(found, below=far)), False)
-        nowhere = Reason(("at", 0, (9, 1)), ((9, 1), (9, 1)), (0, 0))
-        self.assertIs(is_range(one + weak, other + weak, copied(found, below=nowhere)), False)
+        self.assertEqual([weight_at(bids, far.wall, far.place) for bids in (one, other)], [5, 1])
+        self.assertIs(is_range(one, other, copied(found, below=far)), False)
+        self.assertIs(is_range(one, other, copied(found, low=(-5, 1), below=far)), False)
+        nowhere = Reason(("at", 0, (9, 1)), ((9, 1), (10, 1)), (0, 0))
+        self.assertIs(is_range(one, other, copied(found, below=nowhere)), False)
+        # On one wall of three both ends are 0: weights (0, 1) and (0, -1) bar on one side alone.
+        one, other = Bids(1, [(1, (9,))]), Bids(1, [(1, (5,)), (-1, (7,))])
+        found = buyer_range(one, other)
+        self.assertEqual((found.low, found.high), ((0, 1), (0, 1)))
+        self.assertIs(is_range(one, other, found), True)
+        self.assertIs(is_range(one, other, copied(found, below=found.above)), False)
+        self.assertIs(is_range(one, other, copied(found, above=found.below)), False)
 
     def test_ends_that_are_not_there(self):
         found = buyer_range(MENDED, EMPTY)
@@ -458,7 +500,8 @@ class Judged(unittest.TestCase):
                       ((19, 6), (-2, 3)), ((11, 6), (2, 3), (0, 1))]:
             wrong.append(copied(found, weights=value))
         more = copied(found, number=(7, 2), weights=((17, 6), (2, 3)))
-        self.all_wrong_mendings(bids, helpers, wrong + [more, NoMending(found.grounds), Range((5, 2), None, None, None)])
+        wrong += [more, NoMending(found.grounds), Range((5, 2), None, None, None)]
+        self.all_wrong_mendings(bids, helpers, wrong)
         self.all_wrong_mendings(bids, helpers[::-1], [found])
         self.all_wrong_mendings(bids, helpers[:1], [found])
 
@@ -467,11 +510,19 @@ class Judged(unittest.TestCase):
         bids, helpers = Bids(1, [(-3, (5,))]), [Bids(1, [(2, (5,)), (1, (6,))])]
         reason = Reason(("at", 0, (5, 1)), ((5, 1),), (-3, 2))
         other = Reason(("at", 0, (6, 1)), ((6, 1),), (0, 1))
-        for grounds, wanted in [((((1, 2), reason),), True), ((((1, 4), reason), ((1, 4), reason)), True),
-                                ((((1, 2), reason), ((0, 1), other)), True), ((((1, 2), reason), ((1, 1), other)), False),
-                                ((((1, 2), reason), ((0, 2), other)), False), ((((-1, 2), reason), ((1, 1), reason)), False),
-                                ((((1, 2), reason), ((1, 1), harmless_at(9, 2))), True)]:
+        for grounds, wanted in [
+                ((((1, 2), reason),), True), ((((1, 4), reason), ((1, 4), reason)), True),
+                ((((1, 2), reason), ((0, 1), other)), True), ((((1, 2), reason), ((1, 1), other)), False),
+                ((((1, 2), reason), ((0, 2), other)), False), ((((-1, 2), reason), ((1, 1), reason)), False),
+                ((((1, 2), reason), ((1, 1), harmless_at(9, 2))), True)]:
             self.assertIs(is_mending(bids, helpers, Mending((3, 2), ((3, 2),), grounds)), wanted)
+
+    def test_weights_below_zero(self):
+        """A helper that changes nothing could make the sum less."""
+        bids, helpers = Bids(1, [(-3, (5,))]), [Bids(1, [(2, (5,))]), Bids(1, [])]
+        reason = Reason(("at", 0, (5, 1)), ((5, 1),), (-3, 2, 0))
+        for weights, wanted in [(((3, 2), (0, 1)), True), (((2, 1), (-1, 2)), False), (((5, 2), (-1, 1)), False)]:
+            self.assertIs(is_mending(bids, helpers, Mending((3, 2), weights, (((1, 2), reason),))), wanted)
 
     def test_no_mendings_with_one_thing_changed(self):
         bids = Bids(1, [(-3, (5,)), (-2, (7,))])

@@ -39,8 +39,8 @@ def random_region(rng, kinds, closed=0.5):
             continue
 
 
-def places_in(region, far=9):
-    """All integers of a region that are not far."""
+def places_in(region, far=13):
+    """All integers of a region that are not far: its corners are no further."""
     return [p for p in itertools.product(range(far), repeat=region.kinds) if region.has(p)]
 
 
@@ -48,7 +48,7 @@ def corners_by(region):
     """Integers of the region at which the bounds that are kept just so hold all prices together: as bounds are of
     these forms, such prices are the corners."""
     found = []
-    for place in places_in(region, 12):
+    for place in places_in(region):
         joined = {k: k for k in range(region.kinds + 1)}
 
         def root(k):
