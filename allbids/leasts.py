@@ -8,7 +8,7 @@ from allbids.bounds import lesser
 from allbids.errors import TooMany
 from allbids.regions import Region
 from allbids.sums import parts_of, units_of
-from allbids.worths import climbed, moved
+from allbids.worths import box, climbed, moved
 
 MOST_TAKEN = 300
 
@@ -57,6 +57,17 @@ def taken_prices(rows, kinds):
             raise TooMany("bundles", MOST_TAKEN)
         for bundle in last:
             found[bundle] = lowered(rows, bundle, start_for(found, bundle))
+    return found
+
+
+def prices_in(rows, caps):
+    """The least prices of all bundles of a box, by bundles, ascending."""
+    found = {}
+    for bundle in box(caps):
+        if any(bundle):
+            found[bundle] = lowered(rows, bundle, start_for(found, bundle))
+        else:
+            found[bundle] = climbed(rows, bundle)
     return found
 
 

@@ -157,3 +157,16 @@ BARRED = Bids(2, [(2, (3, 0)), (1, (0, 1)), (-1, (1, 1))])
 
 # A buyer with a weight below 0, of one unit of each kind at most.
 MENDED = Bids(2, [(1, (0, 3)), (1, (2, 0)), (-1, (2, 3)), (1, (3, 4))])
+
+
+def moved_by(bundle, kind, units):
+    """A bundle with so many units more of a kind."""
+    return tuple(n + (units if k == kind else 0) for k, n in enumerate(bundle))
+
+
+def least_by(bids, caps=None):
+    """The least prices at all supplies of a box, if all numbers are integers: what one unit more adds to the worth
+    (point 64)."""
+    caps = caps or room_for(bids)
+    table = worths_of(bids, [cap + 1 for cap in caps])
+    return {x: tuple(table[moved_by(x, k, 1)] - table[x] for k in range(bids.kinds)) for x in box_by(caps)}
