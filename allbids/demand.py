@@ -47,8 +47,13 @@ def demand_map(bids):
 
 
 def sums_of_buyer(bids, prices):
-    """The sums of bound and of open weights at prices above 0."""
+    """The sums of bound and of open weights of a buyer at prices above 0."""
     check_buyer(bids)
+    return sums_above(bids, prices)
+
+
+def sums_above(bids, prices):
+    """The sums of bound and of open weights at prices above 0; BadRow for what are none."""
     if not are_prices(prices, bids.kinds) or min(told_row(prices))[0] == 0:
         raise BadRow(prices)
     rows, at, _ = on_grid(bids, prices)

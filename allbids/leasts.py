@@ -47,14 +47,23 @@ def drop(margins, bundle, part):
 
 def taken_prices(rows, kinds):
     """The least prices of all taken bundles, by bundles; TooMany if there are more than MOST_TAKEN."""
-    nothing = (0,) * kinds
+    # No bundle that is taken has more units than this of any kind.
+    units = sum([max(0, weight) for weight, _ in rows])
+    return taken_within(rows, (units,) * kinds, MOST_TAKEN)
+
+
+def taken_within(rows, caps, limit):
+    """The least prices of all taken bundles with no more units of any kind than caps tell, by bundles; TooMany if
+    there are more than limit, None being no limit."""
+    nothing = (0,) * len(caps)
     found = {nothing: climbed(rows, nothing)}
     last = [nothing]
     while last:
-        grown = {moved(bundle, kind, 1): True for bundle in last for kind in range(kinds)}
+        places = [(bundle, kind) for bundle in last for kind in range(len(caps)) if bundle[kind] < caps[kind]]
+        grown = {moved(bundle, kind, 1): True for bundle, kind in places}
         last = [bundle for bundle in grown if is_taken(found, bundle)]
-        if len(found) + len(last) > MOST_TAKEN:
-            raise TooMany("bundles", MOST_TAKEN)
+        if limit is not None and len(found) + len(last) > limit:
+            raise TooMany("bundles", limit)
         for bundle in last:
             found[bundle] = lowered(rows, bundle, start_for(found, bundle))
     return found

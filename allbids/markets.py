@@ -78,8 +78,13 @@ def clears(market, prices, bundles):
 
 def all_bids(market):
     """The list of all bids of all buyers."""
-    total = Bids(market.kinds, [])
-    for bids in market.buyers:
+    return joined(market.kinds, market.buyers)
+
+
+def joined(kinds, lists):
+    """The list of all bids of some lists, perhaps none, for so many kinds."""
+    total = Bids(kinds, [])
+    for bids in lists:
         total = total + bids
     return total
 

@@ -150,7 +150,12 @@ def whole_table(worths):
 def worths_in(bids, caps):
     """The worths that a buyer has of all bundles of a box, by bundles, as whole numbers, and their bottom."""
     rows, bottom = whole_bids(bids)
-    return {bundle: gain_and_cost(rows, climbed(rows, bundle), bundle) for bundle in box(caps)}, bottom
+    return table_by(rows, caps), bottom
+
+
+def table_by(rows, caps):
+    """The worths of all bundles of a box, by bundles, in whole numbers."""
+    return {bundle: gain_and_cost(rows, climbed(rows, bundle), bundle) for bundle in box(caps)}
 
 
 def bids_by(table, caps, bottom):

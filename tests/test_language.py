@@ -234,6 +234,15 @@ class Language(unittest.TestCase):
         for place, node in self.each(ast.ExceptHandler):
             self.assertIn(node.type.id, CLASSES, place)
 
+    def test_ends_of_blocks(self):
+        """What stands in a finally or in the method that ends a block assigns an attribute, and does nothing else."""
+        ends = [part for _, node in self.each(ast.Try) for part in node.finalbody]
+        ends += [part for _, node in self.each(ast.FunctionDef) if node.name == "__exit__" for part in node.body]
+        for node in ends:
+            self.assertIsInstance(node, ast.Assign)
+            self.assertEqual([target.__class__ for target in node.targets], [ast.Attribute])
+            self.assertIsInstance(node.value, (ast.Name, ast.Attribute))
+
     def test_operators_change_nothing(self):
         """No += but of literals in what an operator runs."""
         ahead = [node for name in CLASSES for node in CLASSES[name].body
