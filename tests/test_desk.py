@@ -294,8 +294,9 @@ class Edits(Desks):
     def test_undo_and_redo(self):
         desk = Desk(2, TEXT)
         states = [whole(desk)]
-        for edit in (lambda: desk.put("list D\n1 x 1 1"), lambda: desk.keep("D is a buyer"), lambda: desk.rename("D", "E"),
-                     lambda: desk.release("E is a buyer"), lambda: desk.keep("E alike E"), lambda: desk.drop("E"),
+        for edit in (lambda: desk.put("list D\n1 x 1 1"), lambda: desk.keep("D is a buyer"),
+                     lambda: desk.rename("D", "E"), lambda: desk.release("E is a buyer"),
+                     lambda: desk.keep("E alike E"), lambda: desk.drop("E"),
                      lambda: desk.put("")):
             self.assertIsNone(edit())
             states.append(whole(desk))

@@ -6,8 +6,8 @@ import unittest
 from allbids.bids import Bids
 from allbids.errors import BadNumber, NoBuyer, Unlike
 from allbids.markets import Market, clearing, dealt, least_prices, whole_worth
-from allbids.payments import (Payments, bundles_for, is_best, left_with, payment_range, payments, payments_at, shares_of,
-                              whole_without)
+from allbids.payments import (Payments, bundles_for, is_best, left_with, payment_range, payments, payments_at,
+                              shares_of, whole_without)
 
 from oracles import BARRED, MENDED, box_by, cost, fraction, fractions, pair, pairs, random_buyer, worths_of
 
@@ -178,9 +178,8 @@ class Bundles(unittest.TestCase):
     def test_sizes(self):
         rng = random.Random(87)
         for supply in ((59,), (9, 5), (4, 3, 2)):
-            buyers = [Bids(len(supply), [(rng.randint(1, 5), [(rng.randint(0, 99), 7) for _ in supply]) for _ in range(4)])
-                      for _ in range(5)]
-            market = Market(buyers, supply)
+            rows = [(rng.randint(1, 5), [(rng.randint(0, 99), 7) for _ in supply]) for _ in range(20)]
+            market = Market([Bids(len(supply), rows[k:k + 4]) for k in range(0, 20, 4)], supply)
             told = payments(market)
             self.assertTrue(is_best(market, told.dealing))
             for k in range(5):

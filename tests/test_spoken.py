@@ -9,6 +9,7 @@ from allbids.errors import BadLine, BadText, NoBuyer, NoName
 WORDS = ("is", "a", "buyer", "alike", "never", "below", "clears", "for", "list", "at", "wants", "least")
 LETTERS = "abcdefghijklmnopqrstuvwxyzABCDEFGHIJKLMNOPQRSTUVWXYZ"
 DIGITS = "0123456789"
+LONG = "12345678901234567890"
 
 
 class Reading:
@@ -147,7 +148,8 @@ def some_texts(seed, many, texts, signs):
 
 
 SIGNS = [" ", " ", ",", "/", "-", "0", "1", "9" * 7, "A", "a", "x", "_", ".", "\n", "\t", "is", "a", "buyer", "alike",
-         "never", "below", "clears", "for", "list", "at", "wants", "least", " is", " for ", "abcdefghijklm", "e", "\u00e9"]
+         "never", "below", "clears", "for", "list", "at", "wants", "least", " is", " for ", "abcdefghijklm", "e",
+         "\u00e9"]
 
 
 class Columns(unittest.TestCase):
@@ -189,7 +191,7 @@ class Columns(unittest.TestCase):
             self.assertEqual(self.wrong_at(desk.ask, text), wrong, text)
 
     def test_promises_by_all_readings(self):
-        for kinds, numbers, units in ((1, "1/2", "10"), (2, "0,12/7", "3,0"), (3, "1,2,3/4", "0,1,12345678901234567890")):
+        for kinds, numbers, units in ((1, "1/2", "10"), (2, "0,12/7", "3,0"), (3, "1,2,3/4", "0,1," + LONG)):
             desk = Desk(kinds)
             texts = ["A is a buyer", " A1  alike  bB ", "isx never below abcdefghijkl",
                      f"{numbers} clears {units} for A A b", f"{numbers}  clears {units}  for  forx  "]
@@ -227,7 +229,8 @@ class Lines(unittest.TestCase):
         return places[0]
 
     def test_right(self):
-        for text in ("", "\n", "  \n\n ", "list A", "list A\n", " list   A  \n\n  \n1 x 2 3\n", "list A\nlist B\n-1 x 0 1/2",
+        for text in ("", "\n", "  \n\n ", "list A", "list A\n", " list   A  \n\n  \n1 x 2 3\n",
+                     "list A\nlist B\n-1 x 0 1/2",
                      "list isx\nlist abcdefghijkl\nlist a1\n", "list A\n  12345678901234567890   x 0 0 "):
             self.assertIsNone(self.wrong_at(2, text), text)
 
@@ -245,8 +248,8 @@ class Lines(unittest.TestCase):
             self.assertEqual(self.wrong_at(2, text), (line, wrong), text)
 
     def test_by_all_readings(self):
-        texts = ["list A\n1 x 2 3\n\nlist B\n", " list  Ab \n-12 x 1/2  0 \n  \nlist A\nlist C\n3 x 0 0", "list A\nlist B",
-                 "list abcdefghijkl\n1 x 1 1\nlist isa\n0 x 0 0\n"]
+        texts = ["list A\n1 x 2 3\n\nlist B\n", " list  Ab \n-12 x 1/2  0 \n  \nlist A\nlist C\n3 x 0 0",
+                 "list A\nlist B", "list abcdefghijkl\n1 x 1 1\nlist isa\n0 x 0 0\n"]
         seen = set()
         for text in some_texts(91, 4000, texts, SIGNS + ["list A", "\nlist A", "\n1 x 1 1", "\nlist B \n"]):
             # A taken name with other signs right behind it is looked at above.

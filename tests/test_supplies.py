@@ -199,7 +199,8 @@ class AllSupplies(Raises):
         self.assertEqual(self.check(Bids(2, [(1, (0, 1))]), Bids(2, [])), ((0, 0), (0, 0)))
         self.assertEqual(self.check(Bids(2, []), Bids(2, [])), (None, None))
         self.assertEqual(self.check(MENDED, MENDED), (None, None))
-        self.assertEqual(never_dearer(Bids(1, [(100, ((1, 3),))]), Bids(1, [(99, ((1, 3),)), (1, ((1, 1000),))])), (99,))
+        one = Bids(1, [(100, ((1, 3),))])
+        self.assertEqual(never_dearer(one, Bids(1, [(99, ((1, 3),)), (1, ((1, 1000),))])), (99,))
         self.assertEqual(same_prices(Bids(1, [(100, ((1, 3),))]), Bids(1, [(100, ((2, 6),))])), None)
 
     def test_far_supplies(self):
